@@ -2,6 +2,7 @@ package tests
 
 import (
 	"fmt"
+	"slices"
 	"testing"
 
 	"roundtable/api"
@@ -40,4 +41,8 @@ type source uint64
 func (s *source) below(n int) int {
 	*s = *s*6364136223846793005 + 1442695040888963407
 	return int(uint64(*s)>>33) % n
+}
+
+func containsVector(l [][]int, v []int) bool {
+	return slices.ContainsFunc(l, func(w []int) bool { return slices.Equal(v, w) })
 }
