@@ -1,0 +1,97 @@
+// Package system looks things up in systems that are known to be right.
+package system
+
+import (
+	"slices"
+
+	"roundtable/api"
+)
+
+// Faulty returns the processes that are faulty at the end of a word.
+func Faulty(word []api.Round) int {
+	if len(word) == 0 {
+		return 0
+	}
+	return word[len(word)-1].Faulty
+}
+
+// Obliged returns those of n processes that are not faulty at the end of a word.
+func Obliged(n int, word []api.Round) int {
+	return (1<<n - 1) &^ Faulty(word)
+}
+
+// Has reports whether a process is in a set.
+func Has(set, p int) bool { return set>>p&1 == 1 }
+
+// Processes returns the number of processes of a system.
+func Processes(s api.System) int { return s.Problem.Task.N }
+
+// Final returns the views of an execution behind all rounds.
+func Final(x api.Execution) []int { return x.Views[len(x.Views)-1] }
+
+// Duties calls a function for each execution and each process that is obliged in it, with its final view.
+func Duties(s api.System, visit func(e, p, view int)) {
+	n := Processes(s)
+	for e, x := range s.Executions {
+		set := Obliged(n, x.Word)
+		for p, view := range Final(x) {
+			if Has(set, p) {
+				visit(e, p, view)
+			}
+		}
+	}
+}
+
+// Relevant returns the relevant final views in ascending order.
+func Relevant(s api.System) []int {
+	is := make([]bool, len(s.Table.Views))
+	Duties(s, func(_, _, view int) { is[view] = true })
+	var l []int
+	for view, ok := range is {
+		if ok {
+			l = append(l, view)
+		}
+	}
+	return l
+}
+
+// Own returns the own view of a view in the round before, or -1 in round 0.
+func Own(t api.Table, view int) int {
+	v := t.Views[view]
+	if v.Round == 0 {
+		return -1
+	}
+	return v.Heard[v.Proc]
+}
+
+// Continuing returns for each view the relevant final views that continue it, in ascending order.
+func Continuing(s api.System) [][]int {
+	l := make([][]int, len(s.Table.Views))
+	for _, final := range Relevant(s) {
+		for view := final; view >= 0; view = Own(s.Table, view) {
+			l[view] = append(l[view], final)
+		}
+	}
+	return l
+}
+
+// Allowed returns the output vectors that are allowed in an execution. They belong to the system.
+func Allowed(s api.System, x api.Execution) [][]int {
+	c := s.Problem.Task.Cases[x.Case]
+	if Faulty(x.Word) == 0 && len(c.Calm) > 0 {
+		return c.Calm
+	}
+	return c.Out
+}
+
+// Permitted reports whether some allowed vector has the decisions of all processes of a set.
+func Permitted(allowed [][]int, set int, decisions []int) bool {
+	return slices.ContainsFunc(allowed, func(v []int) bool {
+		for p, x := range decisions {
+			if Has(set, p) && v[p] != x {
+				return false
+			}
+		}
+		return true
+	})
+}
