@@ -5,6 +5,7 @@ import (
 	"slices"
 
 	"roundtable/api"
+	"roundtable/links"
 )
 
 // Faulty returns the processes that are faulty at the end of a word.
@@ -94,4 +95,14 @@ func Permitted(allowed [][]int, set int, decisions []int) bool {
 		}
 		return true
 	})
+}
+
+// Links returns the graph of the executions that are linked by processes which are obliged in both and have the same final view.
+func Links(s api.System) links.Graph {
+	classes := make([][]int, Processes(s))
+	for p := range classes {
+		classes[p] = slices.Repeat([]int{-1}, len(s.Executions))
+	}
+	Duties(s, func(e, p, view int) { classes[p][e] = view })
+	return links.New(len(s.Executions), classes)
 }
