@@ -52,8 +52,8 @@ func having(l [][]api.Vertex) map[api.Vertex][][]api.Vertex {
 	return m
 }
 
-// Covered returns a function that reports whether a simplex is a proper face of one of a list.
-func Covered(l [][]api.Vertex) func(s []api.Vertex) bool {
+// search returns a function that reports whether some simplex of a list has all vertices of a given one, and satisfies a condition with it.
+func search(l [][]api.Vertex, fits func(s, t []api.Vertex) bool) func(s []api.Vertex) bool {
 	m := having(l)
 	return func(s []api.Vertex) bool {
 		shortest := m[s[0]]
@@ -62,8 +62,18 @@ func Covered(l [][]api.Vertex) func(s []api.Vertex) bool {
 				shortest = m[v]
 			}
 		}
-		return slices.ContainsFunc(shortest, func(t []api.Vertex) bool { return len(t) > len(s) && Inside(s, t) })
+		return slices.ContainsFunc(shortest, func(t []api.Vertex) bool { return fits(s, t) && Inside(s, t) })
 	}
+}
+
+// Covered returns a function that reports whether a simplex is a proper face of one of a list.
+func Covered(l [][]api.Vertex) func(s []api.Vertex) bool {
+	return search(l, func(s, t []api.Vertex) bool { return len(t) > len(s) })
+}
+
+// Among returns a function that reports whether a simplex is a face of one of a list.
+func Among(l [][]api.Vertex) func(s []api.Vertex) bool {
+	return search(l, func(s, t []api.Vertex) bool { return true })
 }
 
 // Maximal returns the simplices of a list that are not proper faces of others, in ascending order, each once.
