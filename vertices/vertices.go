@@ -56,13 +56,32 @@ func having(l [][]api.Vertex) map[api.Vertex][][]api.Vertex {
 func search(l [][]api.Vertex, fits func(s, t []api.Vertex) bool) func(s []api.Vertex) bool {
 	m := having(l)
 	return func(s []api.Vertex) bool {
-		shortest := m[s[0]]
-		for _, v := range s[1:] {
-			if len(m[v]) < len(shortest) {
-				shortest = m[v]
+		return slices.ContainsFunc(candidates(m, s), func(t []api.Vertex) bool { return fits(s, t) && Inside(s, t) })
+	}
+}
+
+// candidates returns the shortest list of simplices among those that have a vertex of a given one.
+func candidates(m map[api.Vertex][][]api.Vertex, s []api.Vertex) [][]api.Vertex {
+	shortest := m[s[0]]
+	for _, v := range s[1:] {
+		if len(m[v]) < len(shortest) {
+			shortest = m[v]
+		}
+	}
+	return shortest
+}
+
+// Holders returns a function that returns the number of the simplices of a list of which a simplex is a face.
+func Holders(l [][]api.Vertex) func(s []api.Vertex) int {
+	m := having(l)
+	return func(s []api.Vertex) int {
+		number := 0
+		for _, t := range candidates(m, s) {
+			if Inside(s, t) {
+				number++
 			}
 		}
-		return slices.ContainsFunc(shortest, func(t []api.Vertex) bool { return fits(s, t) && Inside(s, t) })
+		return number
 	}
 }
 
