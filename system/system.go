@@ -106,3 +106,25 @@ func Links(s api.System) links.Graph {
 	Duties(s, func(e, p, view int) { classes[p][e] = view })
 	return links.New(len(s.Executions), classes)
 }
+
+// Known returns for each view of a table the processes whose inputs are in its past.
+func Known(t api.Table) []int {
+	known := make([]int, len(t.Views))
+	for i, v := range t.Views {
+		known[i] = 1 << v.Proc
+		for _, k := range v.Heard {
+			if k >= 0 {
+				known[i] |= known[k]
+			}
+		}
+	}
+	return known
+}
+
+// Points returns the number of points of a system.
+func Points(s api.System) int { return len(s.Executions) * (s.Problem.Rounds + 1) }
+
+// Place returns the execution and the number of rounds of a point.
+func Place(s api.System, point int) (int, int) {
+	return point / (s.Problem.Rounds + 1), point % (s.Problem.Rounds + 1)
+}
