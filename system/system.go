@@ -128,3 +128,9 @@ func Points(s api.System) int { return len(s.Executions) * (s.Problem.Rounds + 1
 func Place(s api.System, point int) (int, int) {
 	return point / (s.Problem.Rounds + 1), point % (s.Problem.Rounds + 1)
 }
+
+// View returns the view of a process at a point.
+func View(s api.System, point, p int) int {
+	e, k := Place(s, point)
+	return s.Executions[e].Views[k][p]
+}
