@@ -134,3 +134,34 @@ func View(s api.System, point, p int) int {
 	e, k := Place(s, point)
 	return s.Executions[e].Views[k][p]
 }
+
+// Early returns the early rule of values of the relevant final views.
+func Early(s api.System, values []int) api.Rule {
+	const none = -1
+	out := slices.Repeat([]int{none}, len(s.Table.Views))
+	open := make([]bool, len(out))
+	differ := make([]bool, len(out))
+	// follow hands the value of a final view down to the views that it continues.
+	var follow func(view, value int)
+	follow = func(view, value int) {
+		if view < 0 {
+			return
+		}
+		differ[view] = differ[view] || open[view] && out[view] != value
+		open[view], out[view] = true, value
+		follow(Own(s.Table, view), value)
+	}
+	for _, view := range Relevant(s) {
+		follow(view, values[view])
+	}
+	for view := range out {
+		before := Own(s.Table, view)
+		switch {
+		case differ[view]:
+			out[view] = none
+		case !open[view] && before >= 0:
+			out[view] = out[before]
+		}
+	}
+	return api.Rule{Out: out}
+}
