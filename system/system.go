@@ -165,3 +165,38 @@ func Early(s api.System, values []int) api.Rule {
 	}
 	return api.Rule{Out: out}
 }
+
+// situation is what the allowed vectors of an execution depend on.
+type situation struct {
+	index int
+	calm  bool
+}
+
+// Domains returns for each relevant final view the set of the values that its process has in some allowed vector, in every execution in which it is obliged and has this view. All other views have the empty set.
+func Domains(s api.System) []int {
+	sets := make([]int, len(s.Table.Views))
+	for _, view := range Relevant(s) {
+		sets[view] = 1<<s.Problem.Task.Outs - 1
+	}
+	known := map[situation][]int{}
+	Duties(s, func(e, p, view int) {
+		x := s.Executions[e]
+		at := situation{x.Case, Faulty(x.Word) == 0}
+		if known[at] == nil {
+			known[at] = unions(Processes(s), Allowed(s, x))
+		}
+		sets[view] &= known[at][p]
+	})
+	return sets
+}
+
+// unions returns for each process the set of the values that it has in some of a list of vectors.
+func unions(n int, vectors [][]int) []int {
+	l := make([]int, n)
+	for _, v := range vectors {
+		for p, x := range v {
+			l[p] |= 1 << x
+		}
+	}
+	return l
+}
