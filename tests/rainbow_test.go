@@ -73,6 +73,12 @@ func TestRainbowFind(t *testing.T) {
 	want(t, "count", all(rainbow.Count(s, right, []int{0})), "[0 15]")
 	want(t, "count", all(rainbow.Count(s, right, []int{0, 0, 0, 0, 1, 0, 1, 0, 0, 0, 0, 2})), "[0 2]")
 	wide, _ := library.SetAgreement(4, 5, 4)
+	for i := range wide.Cases {
+		wide.Cases[i].Out = nil
+		for k := range 256 {
+			wide.Cases[i].Out = append(wide.Cases[i].Out, []int{k >> 6, k >> 4 & 3, k >> 2 & 3, k & 3})
+		}
+	}
 	want(t, "limit", all(rainbow.Find(systemOf(t, wide, adversaryOf(t, 4, "0123 0123 0123 0123"), 1), []int{0, 1, 2})), all(api.Certificate{}, false, api.ErrLimit))
 	names := api.Task{N: 4, Ins: 1, Outs: 7, Cases: []api.Case{{In: []int{0, 0, 0, 0}, Out: [][]int{{0, 1, 2, 3}}}}}
 	want(t, "lists", all(rainbow.Any(systemOf(t, names, adversaryOf(t, 4, "0 1 2 3"), 0))), all(api.Certificate{}, false, api.ErrLimit))
