@@ -76,13 +76,18 @@ func Continuing(s api.System) [][]int {
 	return l
 }
 
-// Allowed returns the output vectors that are allowed in an execution. They belong to the system.
-func Allowed(s api.System, x api.Execution) [][]int {
-	c := s.Problem.Task.Cases[x.Case]
-	if Faulty(x.Word) == 0 && len(c.Calm) > 0 {
+// Vectors returns the output vectors that are allowed for a case and a word. They belong to the task.
+func Vectors(t api.Task, index int, word []api.Round) [][]int {
+	c := t.Cases[index]
+	if Faulty(word) == 0 && len(c.Calm) > 0 {
 		return c.Calm
 	}
 	return c.Out
+}
+
+// Allowed returns the output vectors that are allowed in an execution. They belong to the system.
+func Allowed(s api.System, x api.Execution) [][]int {
+	return Vectors(s.Problem.Task, x.Case, x.Word)
 }
 
 // Permitted reports whether some allowed vector has the decisions of all processes of a set.
