@@ -52,3 +52,39 @@ func Problem(p api.Problem) api.Problem {
 	p.Task, p.Adversary = Task(p.Task), Adversary(p.Adversary)
 	return p
 }
+
+// Expr returns a copy of an expression.
+func Expr(e api.Expr) api.Expr {
+	e.Args = each(e.Args, Expr)
+	return e
+}
+
+// Scheme returns a copy of a scheme.
+func Scheme(s api.Scheme) api.Scheme {
+	s.Cond, s.Args = Expr(s.Cond), each(s.Args, Scheme)
+	return s
+}
+
+// Formula returns a copy of a formula.
+func Formula(f api.Formula) api.Formula {
+	f.Args = each(f.Args, Formula)
+	return f
+}
+
+// Program returns a copy of a program.
+func Program(p api.Program) api.Program {
+	p.Tasks = each(p.Tasks, func(d api.TaskDecl) api.TaskDecl {
+		d.Where, d.Allow, d.Calm = Expr(d.Where), Expr(d.Allow), Expr(d.Calm)
+		return d
+	})
+	p.Adversaries = each(p.Adversaries, func(d api.AdversaryDecl) api.AdversaryDecl {
+		d.Scheme = Scheme(d.Scheme)
+		return d
+	})
+	p.Formulas = each(p.Formulas, func(d api.FormulaDecl) api.FormulaDecl {
+		d.Formula = Formula(d.Formula)
+		return d
+	})
+	p.Problems = List(p.Problems)
+	return p
+}
