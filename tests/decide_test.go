@@ -55,6 +55,7 @@ func TestDecideDecide(t *testing.T) {
 		want(t, "limit", all(decide.Solutions(p)), "[0 17]")
 	}
 	want(t, "limit", all(decide.Rounds(largeProblem(t))), "[0 17]")
+	want(t, "limit", all(decide.Rounds(problemOf(t, 6, "0 01, 01 1, 01 01"))), "[0 17]")
 }
 
 // P46.2: Verify, Rounds and Solutions.

@@ -124,9 +124,11 @@ func TestExecutionBuild(t *testing.T) {
 	want(t, "limit", all(execution.Count(api.Problem{Task: big, Adversary: free, Rounds: 3})), "[0 17]")
 	want(t, "limit", all(execution.Count(api.Problem{Task: big, Adversary: free, Rounds: 4})), "[0 17]")
 	want(t, "count", all(execution.Count(api.Problem{Task: big, Adversary: free, Rounds: 2})), "[262144 0]")
-	crash, _ := failure.Crash(4, 1)
-	four, _ := library.Consensus(4, 3)
-	want(t, "views limit", all(execution.Build(api.Problem{Task: four, Adversary: crash, Rounds: 2})), all(api.System{}, api.ErrLimit))
+	five, _ := library.Consensus(5, 4)
+	complete := adversaryOf(t, 5, "01234 01234 01234 01234 01234")
+	want(t, "views limit", all(execution.Build(api.Problem{Task: five, Adversary: complete, Rounds: 2})), all(api.System{}, api.ErrLimit))
+	_, e := execution.Build(api.Problem{Task: five, Adversary: complete, Rounds: 1})
+	want(t, "no limit", e, api.OK)
 }
 
 // P23.2: Find, Obliged, Having, Relevant and Continuing.

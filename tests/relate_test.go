@@ -54,6 +54,14 @@ func TestRelateStronger(t *testing.T) {
 		return x
 	}
 	want(t, "cases", all(relate.Join(wide(0), wide(1))), all(api.Task{}, api.ErrMany))
+	full := func(last int) api.Task {
+		c := api.Case{In: []int{0, 0, 0, 0, 0}}
+		for i := range 1024 {
+			c.Out = append(c.Out, []int{i >> 8, i >> 6 & 3, i >> 4 & 3, i >> 2 & 3, i&3 + last})
+		}
+		return api.Task{N: 5, Ins: 1, Outs: 5, Cases: []api.Case{c}}
+	}
+	want(t, "vectors", all(relate.Join(full(0), full(1))), all(api.Task{}, api.ErrMany))
 	for _, x := range badTasks() {
 		want(t, "stronger", all(relate.Stronger(a, x.t)), all([]int{}, 0, []int{}, false, x.e))
 		want(t, "meet", all(relate.Meet(x.t, api.Task{})), all(api.Task{}, x.e))

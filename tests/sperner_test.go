@@ -92,6 +92,22 @@ func TestSpernerCertificates(t *testing.T) {
 	want(t, "limit", all(sperner.Certificate(points, many, 1)), "[[] false 17]")
 	_, ok, e = sperner.Certificate(points, many, 0)
 	want(t, "no limit", all(ok, e), "[true 0]")
+	for i := range many.Allowed {
+		many.Allowed[i] = 3
+	}
+	want(t, "equations", all(sperner.Certificate(points, many, 1)), "[[] false 17]")
+	var edges api.Complex
+	var pairs api.Labels
+	for i := range 128 {
+		pairs.Vertices = append(pairs.Vertices, api.Vertex{Color: i / 64, Label: i % 64})
+		pairs.Allowed = append(pairs.Allowed, 3)
+		for k := 0; i < 64 && k < 64; k++ {
+			edges.Facets = append(edges.Facets, []api.Vertex{{Label: i}, {Color: 1, Label: k}})
+		}
+	}
+	want(t, "no unknowns of level 0", all(sperner.Certificate(edges, pairs, 1)), "[[] false 0]")
+	pairs.Allowed[0] = 1
+	want(t, "unknowns", all(sperner.Certificate(edges, pairs, 1)), "[[] false 17]")
 	for i, x := range []struct {
 		levels [][][]api.Vertex
 		e      api.Errno
