@@ -44,7 +44,9 @@ func TestBisimulationChecks(t *testing.T) {
 	want(t, "rank", all(bisimulation.Rank(x, 0, 2)), "[1 true 0]")
 	want(t, "rank", all(bisimulation.Rank(x, 0, 3)), "[0 true 0]")
 	want(t, "rank", all(bisimulation.Rank(x, 0, 1)), "[0 false 0]")
-	want(t, "rank", all(bisimulation.Rank(x, 0, 4)), "[0 false 6]")
+	for _, bad := range [][2]int{{0, 4}, {4, 0}, {-1, 0}, {0, -1}} {
+		want(t, "rank", all(bisimulation.Rank(x, bad[0], bad[1])), "[0 false 6]")
+	}
 	chain := bisimulation.Structure{Atoms: []int{0, 0, 0, 7}, Next: []int{1, 2, 3, 3}}
 	want(t, "rank", all(bisimulation.Rank(chain, 0, 1)), "[2 true 0]")
 	s := exampleSystem(t)

@@ -82,6 +82,14 @@ func TestExprEval(t *testing.T) {
 	want(t, "uses", []int{expr.Uses(a), expr.Uses(c), expr.Uses(ex(99, in(num(0)), out(num(0)))), expr.Uses(yes)}, "[2 5 3 0]")
 	want(t, "size", all(expr.Size(c)), "[10 6]")
 	want(t, "size", all(expr.Size(ex(99, yes, ex(98, yes)))), "[8 4]")
+	large := yes
+	for range 5 {
+		large = ex(api.ExprAnd, large, large)
+	}
+	for n, e := range []api.Errno{api.OK, api.OK, api.ErrMany} {
+		want(t, "nodes", expr.Check(nest(api.ExprNot, n, large), 0), e) // 127 nodes and more
+	}
+	want(t, "depth", expr.Check(nest(api.ExprNot, 22, yes), 24), api.OK)
 	want(t, "kind", all(expr.Kind(b)), "[0 0]")
 	want(t, "kind", all(expr.Kind(ex(api.ExprNot))), "[1 0]")
 	want(t, "kind", all(expr.Kind(ex(16))), "[0 1]")

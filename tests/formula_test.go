@@ -33,6 +33,10 @@ func TestFormulaQuestions(t *testing.T) {
 	want(t, "agents", formula.Agents(f), 2)
 	want(t, "agents", formula.Agents(formulaOf(t, "E({0}, K(3, true)) or C({1}, D({}, true))", 4)), 11)
 	want(t, "agents", formula.Agents(api.Formula{Op: api.FormulaAnd, Proc: 1, Group: 9, Args: []api.Formula{{Op: api.FormulaKnows, Proc: 5}, {Op: api.FormulaKnows, Proc: -1}, {Op: api.FormulaCommon, Group: 32, Proc: 1}, {Op: api.FormulaEveryone, Group: 16}}}), 16)
+	for _, op := range []int{-1, 18, 99} {
+		odd := api.Formula{Op: op, Args: []api.Formula{{Op: api.FormulaNext}, {Op: api.FormulaCommon, Group: 3}}}
+		want(t, "unknown", all(formula.Agents(odd), formula.Nesting(odd), formula.Temporal(odd)), "[3 1 true]")
+	}
 	want(t, "nesting", formula.Nesting(f), 1)
 	want(t, "nesting", formula.Nesting(formulaOf(t, "E({0}, next(K(3, true) and D({}, at(1)))) or K(0, true)", 4)), 2)
 	want(t, "nesting", formula.Nesting(api.Formula{}), 0)

@@ -49,6 +49,11 @@ func TestLexerPlaces(t *testing.T) {
 	} {
 		want(t, "join", all(lexer.Join(x.l)), all("", x.e))
 	}
+	full := strings.Repeat("0", api.MaxText)
+	text, e := lexer.Join([]api.Token{{Kind: 1, Text: full}})
+	want(t, "join", all(text == full, e), "[true 0]")
+	want(t, "position", all(lexer.Position(full, api.MaxText)), all(1, api.MaxText+1, api.OK))
+	want(t, "offset", all(lexer.Offset(full, 1, api.MaxText+1)), all(api.MaxText, api.OK))
 	want(t, "name", []api.Errno{lexer.Name("all"), lexer.Name("alll"), lexer.Name("1a"), lexer.Name(""), lexer.Name("K"), lexer.Name("k9")}, "[8 0 8 8 8 0]")
 	want(t, "reserved", []bool{lexer.Reserved("C"), lexer.Reserved("where"), lexer.Reserved("c"), lexer.Reserved("")}, "[true true false false]")
 	want(t, "keywords", strings.Join(lexer.Keywords(), " "), "C D E K adversary all allow always and at calm count crash decided eventually everyone faulty for formula given graphs heard hears in input inputs next not omit or out outputs partition problem processes receive rounds send snapshot some task then true under until where")

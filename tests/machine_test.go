@@ -61,6 +61,8 @@ func TestMachineRuns(t *testing.T) {
 	want(t, "play", all(machine.Play(m, []int{0, 1}, nil)), "[[] 15]")
 	want(t, "play", all(machine.Play(m, []int{1, 1}, both)), "[[] 20]")
 	want(t, "play", all(machine.Play(m, []int{0, 1}, wordOf(t, 2, "0 1"))), "[[] 20]")
+	full := api.Machine{N: 1, Rounds: 0, Ins: 8, Outs: 8, First: [][]int{{0, 1, 2, 3, 4, 5, 6, api.MaxViews - 1}}, Out: [][][]int{{make([]int, api.MaxViews)}}}
+	want(t, "full", machine.Check(full), api.OK)
 	for i, x := range badMachines(t) {
 		name := string(rune('A' + i))
 		want(t, name, machine.Check(x.m), x.e)

@@ -79,6 +79,7 @@ func TestMonitorBlame(t *testing.T) {
 	faulty := problemOf(t, 1, "0 01 !0 > 1, 01 01 !01 > 1", "0 1 !01")
 	want(t, "faulty", all(monitor.Blame(faulty, []int{0, 1}, wordOf(t, 2, "0 01 !0"), []int{0, 1})), "[0 -1 0]")
 	want(t, "faulty", all(monitor.Blame(faulty, []int{0, 1}, wordOf(t, 2, "01 01 !01"), []int{-1, -1})), "[0 -1 0]")
+	want(t, "faulty", all(monitor.Blame(faulty, []int{0, 0}, wordOf(t, 2, "0 01 !0"), []int{0, 1})), "[3 1 0]")
 	calm := api.Problem{Task: calmTask(), Adversary: p.Adversary, Rounds: 1}
 	want(t, "calm", all(monitor.Blame(calm, []int{0, 1}, wordOf(t, 2, "0 01"), []int{0, 0})), "[3 0 0]")
 	want(t, "none", all(monitor.Blame(p, []int{0, 2}, nil, nil)), "[0 0 6]")

@@ -117,6 +117,11 @@ func TestPrinterParts(t *testing.T) {
 		want(t, "scheme", all(printer.Scheme(bad)), all("", api.ErrForm))
 		want(t, "formula", all(printer.Formula(bad)), all("", api.ErrForm))
 	}
+	for _, set := range []api.Syntax{
+		{Kind: api.NodeSet, Num: 1}, {Kind: api.NodeSet, Text: "x"}, {Kind: api.NodeSet, Text: "everyone", Kids: []api.Syntax{leaf}}, {Kind: api.NodeSet, Kids: []api.Syntax{{Kind: api.NodeName, Text: "x"}}}, {Kind: api.NodeSet, Kids: []api.Syntax{{Kind: api.NodeNumber, Num: -1}}}, leaf, {},
+	} {
+		want(t, "set", all(printer.Formula(api.Syntax{Kind: api.NodeCall, Text: "E", Kids: []api.Syntax{set, {Kind: api.NodeCall, Text: "true"}}})), all("", api.ErrForm))
+	}
 	sum := leaf
 	for range 20000 {
 		sum = api.Syntax{Kind: api.NodeBinary, Text: "+", Kids: []api.Syntax{sum, leaf}}

@@ -40,7 +40,7 @@ func TestRainbowLabels(t *testing.T) {
 		e api.Errno
 	}{
 		{api.Certificate{}, api.ErrArg}, {api.Certificate{Kind: api.CertificateProof}, api.ErrArg}, {api.Certificate{Kind: api.CertificateRainbow, Walk: make([]api.Link, 1)}, api.ErrForm}, {api.Certificate{Kind: api.CertificateRainbow, Proof: make([][]int, 1)}, api.ErrForm},
-		{rainbowOf([]int{0, 1}, [][]int{{2}}), api.ErrShape}, {rainbowOf([]int{0, 1}, [][]int{{2, 7}}, nil), api.ErrShape}, {rainbowOf([]int{0, 1}, [][]int{{16}}, nil), api.ErrRange}, {rainbowOf([]int{0, 1}, [][]int{{2}}, [][]int{{7, 2}}), api.ErrOrder},
+		{rainbowOf([]int{0, 1}, [][]int{{2}}), api.ErrShape}, {rainbowOf([]int{0, 1}, [][]int{{2, 7}}, nil), api.ErrShape}, {rainbowOf([]int{0, 1}, [][]int{{16}}, nil), api.ErrRange}, {rainbowOf([]int{0, 1}, [][]int{{2}}, [][]int{{7, 2}}), api.ErrOrder}, {rainbowOf([]int{0, 1}, [][]int{{2}}, [][]int{{2, 2}}), api.ErrOrder}, {rainbowOf([]int{0, 1}, [][]int{{2}, {2}}, nil), api.ErrOrder},
 		{rainbowOf([]int{0, 1}, [][]int{{2}}, [][]int{{2, 8}}), api.ErrNone}, {rainbowOf([]int{0, 1}, [][]int{{0}}, nil), api.ErrNone}, {rainbowOf([]int{0, 1}, [][]int{{3}, {2}}, nil), api.ErrOrder}, {rainbowOf([]int{0, 1}, [][]int{{2}}, [][]int{{2, 7}, {7, 8}}), api.ErrProof},
 		{rainbowOf([]int{0, 1}, nil, [][]int{{2, 7}, {7, 8}, {8, 9}}), api.ErrProof}, {rainbowOf([]int{1, 0}, [][]int{{2}}, [][]int{{2, 7}, {7, 8}, {8, 9}}), api.ErrProof}, {rainbowOf([]int{0}, [][]int{{2}}), api.ErrProof},
 	} {

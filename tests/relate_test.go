@@ -85,6 +85,8 @@ func TestRelateProduct(t *testing.T) {
 	s, _ := library.SetAgreement(5, 2, 2)
 	w, _ := library.Approximate(5, 3)
 	want(t, "vectors", all(relate.Product(s, w)), all(api.Task{}, api.ErrMany))
+	full, e := relate.Product(s, s)
+	want(t, "full", all(len(full.Cases[1].Out), e), "[1024 0]")
 	want(t, "relabel", all(relate.Relabel(a, 1, []int{0, 0})), "[{2 2 1 [{[0 0] [[0 0]] []} {[0 1] [[0 0]] []} {[1 0] [[0 0]] []} {[1 1] [[0 0]] []}]} 0]")
 	want(t, "relabel", all(relate.Relabel(calm, 3, []int{2, 1})), "[{2 2 3 [{[0 0] [[2 2]] []} {[0 1] [[1 1] [2 2]] [[1 1]]} {[1 1] [[1 1]] []}]} 0]")
 	want(t, "relabel", all(relate.Relabel(a, 0, nil)), all(api.Task{}, api.ErrRange))

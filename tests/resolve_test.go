@@ -162,6 +162,45 @@ func TestResolveChecks(t *testing.T) {
 		want(t, "tree", e, x.e)
 	}
 	want(t, "formula", resolve.CheckFormula(loop, 0), api.ErrRange)
+	for n, e := range []api.Errno{api.ErrRange, api.OK, api.OK, api.OK, api.OK, api.OK, api.ErrRange} {
+		want(t, "processes", resolve.CheckFormula(api.Formula{Op: api.FormulaNot, Args: []api.Formula{{}}}, n), e)
+	}
+	// A chain of n operators has 2 n + 1 nodes, and the depth n + 1.
+	for n, e := range map[int]api.Errno{23: api.OK, 24: api.ErrDeep, 63: api.ErrDeep, 64: api.ErrMany} {
+		s, f := ref, api.Formula{}
+		for range n {
+			s = api.Scheme{Op: api.SchemeThen, Args: []api.Scheme{ref, s}}
+			f = api.Formula{Op: api.FormulaOr, Args: []api.Formula{f, {}}}
+		}
+		want(t, "scheme", resolve.CheckScheme(s, 1), e)
+		want(t, "formula", resolve.CheckFormula(f, 1), e)
+		tree, _, _ := parser.Scheme("a" + strings.Repeat(" or a", n))
+		_, _, err := resolve.Scheme(tree, []string{"a"})
+		want(t, "scheme", err, e)
+		tree, _, _ = parser.Formula("true" + strings.Repeat(" or true", n))
+		_, _, err = resolve.Formula(tree, 1)
+		want(t, "formula", err, e)
+	}
+	// Balanced trees of 128 and 129 nodes.
+	wideScheme, wideFormula, wideText := ref, api.Formula{}, "(a)"
+	text2 := "(true)"
+	for range 6 {
+		wideScheme = api.Scheme{Op: api.SchemeOr, Args: []api.Scheme{wideScheme, wideScheme}}
+		wideFormula = api.Formula{Op: api.FormulaAnd, Args: []api.Formula{wideFormula, wideFormula}}
+		wideText, text2 = "("+wideText+" or "+wideText+")", "("+text2+" or "+text2+")"
+	}
+	want(t, "wide", resolve.CheckScheme(wideScheme, 1), api.OK)
+	want(t, "wide", resolve.CheckFormula(api.Formula{Op: api.FormulaNot, Args: []api.Formula{wideFormula}}, 1), api.OK)
+	want(t, "wide", resolve.CheckFormula(nestFormula(2, wideFormula), 1), api.ErrMany)
+	wideTree, _, _ := parser.Formula("not " + text2)
+	_, _, err := resolve.Formula(wideTree, 1)
+	want(t, "wide", err, api.OK)
+	wideTree, _, _ = parser.Formula("not not " + text2)
+	_, _, err = resolve.Formula(wideTree, 1)
+	want(t, "wide", err, api.ErrMany)
+	wideTree, _, _ = parser.Scheme(wideText)
+	_, _, err = resolve.Scheme(wideTree, []string{"a"})
+	want(t, "wide", err, api.OK)
 	p := programOf(t, exampleProgram)
 	want(t, "check", resolve.Check(p), api.OK)
 	for i, change := range []func(p *api.Program){
@@ -178,6 +217,44 @@ func TestResolveChecks(t *testing.T) {
 	tree, _ := resolve.CondTree(condOf(t, "all x: in(x) != 1 or not some y: x = y"))
 	text, _ := printer.Cond(tree)
 	want(t, "text", text, "all p0: in(p0) != 1 or not some p1: p0 = p1")
+}
+
+// nestFormula puts negations in front of a formula.
+func nestFormula(n int, f api.Formula) api.Formula {
+	for range n {
+		f = api.Formula{Op: api.FormulaNot, Args: []api.Formula{f}}
+	}
+	return f
+}
+
+// P10.2: the limits of conditions and of the numbers of tasks.
+func TestResolveLimits(t *testing.T) {
+	pair := "1 = 1 and 1 = 1"
+	text := pair // 7 nodes
+	for range 4 {
+		text = "(" + text + ") and (" + text + ")"
+	}
+	for src, e := range map[string]api.Errno{text: api.OK, "not (" + text + ")": api.OK, "not not (" + text + ")": api.ErrMany, strings.Repeat("not ", 22) + "1 = 1": api.OK, strings.Repeat("not ", 23) + "1 = 1": api.ErrDeep} {
+		tree, _, _ := parser.Cond(src)
+		_, _, err := resolve.Cond(tree, 0)
+		want(t, "cond", err, e)
+	}
+	for numbers, e := range map[string]api.Errno{"inputs 8 outputs 8": api.OK, "inputs 1 outputs 1": api.OK, "inputs 9 outputs 8": api.ErrRange, "inputs 8 outputs 0": api.ErrRange} {
+		tree, _, _ := parser.Parse("processes 5; task c " + numbers + " allow 1 = 1;")
+		p, _, err := resolve.Program(tree)
+		want(t, numbers, err, e)
+		if e == api.OK {
+			want(t, numbers, resolve.Check(p), e)
+		}
+	}
+	good := programOf(t, "processes 1; task c inputs 8 outputs 8 allow 1 = 1;")
+	many := good
+	for i := range 1023 {
+		many.Formulas = append(many.Formulas, api.FormulaDecl{Name: fmt.Sprint("f", i)})
+	}
+	want(t, "declarations", resolve.Check(many), api.OK)
+	many.Formulas = append(many.Formulas, api.FormulaDecl{Name: "g"})
+	want(t, "declarations", resolve.Check(many), api.ErrMany)
 }
 
 // P10.3: consequences.

@@ -82,6 +82,8 @@ func TestSolverModels(t *testing.T) {
 	want(t, "models", all(solver.Models(c, 2)), "[[] 5]")
 	want(t, "models", all(solver.Models(square(), 0)), "[[] 0]")
 	want(t, "models", all(solver.Models(c, -1)), "[[] 2]")
+	many, e := solver.Models(clausesOf(10), 1024)
+	want(t, "models", all(len(many), many[1][9], e), "[1024 -10 0]")
 	want(t, "models", all(solver.Models(c, 1025)), "[[] 2]")
 	want(t, "models", all(solver.Models(clausesOf(21, nil), 1)), "[[] 17]")
 	want(t, "models", all(solver.Models(clausesOf(0), 1)), "[[[]] 0]")

@@ -83,6 +83,7 @@ func TestTaskChanges(t *testing.T) {
 	want(t, "restrict", all(task.Restrict(c, make([]int, 1025))), all(api.Task{}, api.ErrMany))
 	want(t, "restrict", all(task.Restrict(c, []int{1, 3, 3})), all(api.Task{}, api.ErrNone))
 	want(t, "restrict", all(task.Restrict(c, []int{1, 0, 3})), all(api.Task{}, api.ErrOrder))
+	want(t, "restrict", all(task.Restrict(c, []int{1, 1})), all(api.Task{}, api.ErrOrder))
 	want(t, "permute", all(task.Permute(c, []int{1, 0})), "[{2 2 2 [{[0 0] [[0 0]] []} {[1 0] [[0 0] [1 1]] [[1 1]]} {[1 1] [[1 1]] []}]} 0]")
 	want(t, "permute", all(task.Permute(c, []int{1, 2, 0})), all(api.Task{}, api.ErrMismatch))
 	want(t, "permute", all(task.Permute(c, []int{1, 1})), all(api.Task{}, api.ErrTwice))

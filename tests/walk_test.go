@@ -55,6 +55,8 @@ func TestWalkFind(t *testing.T) {
 	want(t, "find", all(c.Walk[0], c.Walk[len(c.Walk)-1].Execution >= 6, ok, e), "[{0 -1} true true 0]")
 	want(t, "verify", walk.Verify(one, c), api.OK)
 	want(t, "none", all(walk.Find(systemOf(t, consensusOf(t, 0, 1, 3), adversaryOf(t, 2, "0 01, 01 01"), 1))), all(api.Certificate{}, false, api.OK))
+	circle := problemOf(t, 6, "0 01, 01 1, 01 01")
+	want(t, "limit", all(walk.Find(systemOf(t, circle.Task, circle.Adversary, 6))), all(api.Certificate{}, false, api.ErrLimit))
 	for i, x := range []struct {
 		c api.Certificate
 		e api.Errno
