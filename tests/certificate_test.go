@@ -55,6 +55,13 @@ func TestCertificateTexts(t *testing.T) {
 		want(t, text, all(certificate.Parse(text)), all(api.Certificate{}, api.ErrSyntax))
 	}
 	want(t, "long", all(certificate.Parse(strings.Repeat("x", api.MaxText+1))), all(api.Certificate{}, api.ErrLong))
+	many := make([]int, api.MaxVars)
+	for i := range many {
+		many[i] = -api.MaxVars
+	}
+	want(t, "many", certificate.Check(proofOf(many, []int{api.MaxVars})), api.OK)
+	want(t, "many", certificate.Check(walkCertificate(api.Link{Execution: api.MaxNumber, Proc: -1}, api.Link{Proc: 4})), api.OK)
+	want(t, "many", certificate.Check(rainbowOf([]int{7, 0, 0, 0, 0}, [][]int{{0, api.MaxNumber, 1, 2, 3}}, nil, nil, nil, nil)), api.OK)
 	long := proofOf()
 	for range 20000 {
 		long.Proof = append(long.Proof, []int{1})

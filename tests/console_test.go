@@ -39,6 +39,8 @@ func TestConsoleSession(t *testing.T) {
 	}
 	_, text := console.Do(console.Begin(), strings.Repeat("x", api.MaxText+1))
 	want(t, "long", text, "error 13")
+	_, text = console.Do(console.Begin(), strings.Repeat("x", api.MaxText))
+	want(t, "not long", text, "error 4")
 	want(t, "nothing", console.Run(nil), "[]")
 }
 

@@ -7,6 +7,7 @@ import (
 	"roundtable/chain"
 	"roundtable/complex"
 	"roundtable/homology"
+	"roundtable/matrix"
 )
 
 func sketchCycles(l [][][]api.Vertex, e api.Errno) string {
@@ -134,6 +135,16 @@ func TestHomologyLaws(t *testing.T) {
 			cycles, _ := homology.Cycles(c, d)
 			want(t, "number", len(cycles), b)
 			want(t, "independent", all(homology.Independent(c, d, cycles)), "[true 0]")
+			boundary, _ := chain.Matrix(c, d)
+			kernel, _ := matrix.Kernel(boundary)
+			var basis [][][]api.Vertex
+			for _, row := range kernel.Rows {
+				a, _ := chain.Chain(c, d, row)
+				if ok, _ := homology.Independent(c, d, append(basis[:len(basis):len(basis)], a)); ok {
+					basis = append(basis, a)
+				}
+			}
+			want(t, "basis", sketchCycles(cycles, api.OK), sketchCycles(basis, api.OK))
 			m, _ := chain.Matrix(c, d+1)
 			for k := range m.Cols {
 				a, _ := chain.Chain(c, d+1, []int{k})

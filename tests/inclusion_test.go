@@ -48,6 +48,7 @@ func TestInclusionExtra(t *testing.T) {
 	want(t, "verify", inclusion.Verify(a, b, [][2]int{{0, 1}}), api.ErrRange)
 	want(t, "verify", inclusion.Verify(a, b, [][2]int{{2, 0}}), api.ErrRange)
 	want(t, "verify", inclusion.Verify(a, b, make([][2]int, api.MaxSteps+1)), api.ErrMany)
+	want(t, "verify", inclusion.Verify(a, b, make([][2]int, api.MaxSteps)), api.ErrProof)
 	want(t, "verify", inclusion.Verify(a, adversaryOf(t, 3, "0 1 2"), nil), api.ErrMismatch)
 	for k, extra := range []int{0, 1, 2, 4} {
 		want(t, "extra", all(inclusion.Extra(b, a, k)), all(extra, api.OK))

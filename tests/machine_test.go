@@ -84,6 +84,11 @@ func TestMachineSynthesize(t *testing.T) {
 	want(t, "verify", machine.Verify(m, s, ruleOf(0)), api.ErrShape)
 	other := systemOf(t, consensusOf(t, 0, 1), adversaryOf(t, 2, "0 01, 01 01"), 2)
 	want(t, "mismatch", machine.Verify(m, other, nobody(other)), api.ErrMismatch)
+	for _, numbers := range [][3]int{{1, 2, 2}, {2, 3, 2}, {2, 2, 3}} {
+		x := api.Task{N: numbers[0], Ins: numbers[1], Outs: numbers[2], Cases: []api.Case{{In: make([]int, numbers[0]), Out: [][]int{make([]int, numbers[0])}}}}
+		y := systemOf(t, x, adversaryOf(t, numbers[0], []string{"", "0", "0 1"}[numbers[0]]), 1)
+		want(t, "mismatch", machine.Verify(m, y, nobody(y)), api.ErrMismatch)
+	}
 	more := systemOf(t, consensusOf(t, 0, 1, 2), adversaryOf(t, 2, "0 01, 01 01"), 1)
 	silent, _ := machine.Synthesize(s, nobody(s))
 	want(t, "gap", machine.Verify(silent, more, nobody(more)), api.ErrGap)

@@ -115,6 +115,13 @@ func TestMatrixLaws(t *testing.T) {
 		s, y, ok, _ := matrix.Solve(m, v)
 		if ok {
 			want(t, "solution", all(matrix.Apply(m, s)), all(v, api.OK))
+			for _, c := range s {
+				leading := false
+				for _, row := range form.Rows {
+					leading = leading || row[0] == c
+				}
+				want(t, "leading", leading, true)
+			}
 		} else {
 			want(t, "refutation", matrix.Verify(m, v, y), api.OK)
 		}

@@ -56,6 +56,8 @@ func TestSimulateRun(t *testing.T) {
 	want(t, "one", all(one.Messages, one.Decisions, e), all([]api.Message{{Round: 0, From: 0, To: 1, Bytes: "\x00\x00\x01\x00\x00\x07"}}, []int{-1, -1}, api.OK))
 	want(t, "error", all(simulate.Run(m, []int{0}, nil)), all(api.Trace{}, api.ErrShape))
 	want(t, "error", all(simulate.Run(m, []int{1, 1}, wordOf(t, 2, "0 01"))), all(api.Trace{}, api.ErrGap))
+	five := api.Trace{Inputs: []int{0, 1, 7, 3, 0}, States: [][]int{{0, 1, 2, 3, api.MaxNumber}}, Decisions: []int{0, -1, 7, -1, 0}, Times: []int{0, -1, 0, -1, 0}}
+	want(t, "five", simulate.Check(five), api.OK)
 	for i, bad := range badTraces(t) {
 		name := string(rune('A' + i))
 		want(t, name, simulate.Check(bad.t), bad.e)
@@ -76,6 +78,8 @@ func TestSimulateFormat(t *testing.T) {
 	want(t, "replay", simulate.Replay(m, x), api.OK)
 	want(t, "bytes", all(simulate.Bytes(x)), "[12 0]")
 	want(t, "format", all(simulate.Format(x)), all("inputs 0 1\nstates 0 1\nround 1: 01 01\nfrom 0 to 1: 000001000007\nfrom 1 to 0: 000100000006\nstates 0 1\nprocess 0 does not decide\nprocess 1 decides 1 at 1\n", api.OK))
+	zero := api.Trace{Inputs: []int{3}, States: [][]int{{4}}, Decisions: []int{0}, Times: []int{0}}
+	want(t, "format", all(simulate.Format(zero)), all("inputs 3\nstates 4\nprocess 0 decides 0 at 0\n", api.OK))
 	body := "\x00\x00\x01" + strings.Repeat("\x00", api.MaxText/2)
 	x.Messages[0].Bytes = sealed(body)
 	want(t, "form", simulate.Check(x), api.OK)

@@ -30,6 +30,12 @@ func TestWireMessages(t *testing.T) {
 	want(t, "length", all(wire.Length(m, 0, 1, 0)), "[7 0]")
 	want(t, "length", all(wire.Length(m, 0, 0, 1)), "[6 0]")
 	want(t, "decode", all(wire.Decode(m, 0, 1, 0, long)), "[300 0]")
+	for symbol, bytes := range map[int]string{0: "\x00", 127: "\x7f", 128: "\x80\x01", 16383: "\xff\x7f", 16384: "\x80\x80\x01", api.MaxNumber: "\x80\x80\x40"} {
+		m.Symbols[0][0][1][0] = symbol
+		want(t, "encode", all(wire.Encode(m, 0, 0, 1, 0)), all(sealed("\x00\x00\x01"+bytes), api.OK))
+		want(t, "decode", all(wire.Decode(m, 0, 0, 1, sealed("\x00\x00\x01"+bytes))), all(symbol, api.OK))
+	}
+	m.Symbols[0][0][1][0] = 0
 	want(t, "encode", all(wire.Encode(m, 0, 1, 0, 2)), "[ 6]")
 	want(t, "encode", all(wire.Encode(m, 0, 1, 0, -1)), "[ 6]")
 	for _, x := range []struct {
