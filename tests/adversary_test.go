@@ -78,6 +78,11 @@ func TestAdversaryWords(t *testing.T) {
 	want(t, "state", all(adversary.State(a, nil)), "[0 0]")
 	want(t, "state", all(adversary.State(a, []api.Round{silent, silent})), "[0 25]")
 	want(t, "allows", all(adversary.Allows(a, []api.Round{complete, silent})), "[true 0]")
+	full := api.Adversary{N: 2}
+	for range api.MaxStates {
+		full.States = append(full.States, []api.Move{{Round: silent, To: api.MaxStates - 1}, {Round: complete}})
+	}
+	want(t, "full", adversary.Check(full), api.OK)
 	want(t, "allows", all(adversary.Allows(a, []api.Round{silent, silent})), "[false 0]")
 	for _, x := range badAdversaries(t) {
 		want(t, "check", adversary.Check(x.a), x.e)

@@ -33,6 +33,7 @@ func TestCanonicalForms(t *testing.T) {
 		want(t, "canonical", all(canonical.Canonical(x.a)), all(api.Adversary{}, x.e))
 		want(t, "is", all(canonical.Is(x.a)), all(false, x.e))
 		want(t, "equal", all(canonical.Equal(a, x.a)), all(false, x.e))
+		want(t, "equal", all(canonical.Equal(x.a, api.Adversary{})), all(false, x.e))
 		want(t, "distinguish", all(canonical.Distinguish(x.a, -1, 0)), all([]int{}, false, x.e))
 		want(t, "prove", all(canonical.Prove(x.a)), all([]int{}, x.e))
 		want(t, "verify", canonical.Verify(x.a, nil), x.e)

@@ -60,6 +60,11 @@ func TestCombineSchemes(t *testing.T) {
 	want(t, "rule", sketchAdversary(combine.Scheme(2, nil, api.Scheme{Op: api.SchemeSnapshot})), "0 01 > 0, 01 1 > 0, 01 01 > 0")
 	want(t, "or", sketchAdversary(combine.Scheme(2, named, tree(api.SchemeOr, 0, ref(0), ref(1)))), sketchAdversary(combine.Or(a, b)))
 	want(t, "then", sketchAdversary(combine.Scheme(2, named, tree(api.SchemeThen, 2, ref(0), ref(1)))), sketchAdversary(combine.Then(a, 2, b)))
+	for n, moves := range map[int]int{1: 1, 4: 75, 5: 541} {
+		a, e := combine.Scheme(n, nil, api.Scheme{Op: api.SchemeSnapshot})
+		good(t, "scheme", e)
+		want(t, "moves", len(a.States[0]), moves)
+	}
 	empty := tree(api.SchemeAnd, 0, ref(0), ref(1))
 	want(t, "and", all(combine.Scheme(2, named, empty)), all(api.Adversary{}, api.ErrEmpty))
 	wide := api.Scheme{Op: api.SchemeSend, Num: 5}

@@ -46,6 +46,14 @@ func TestCommonWalks(t *testing.T) {
 	want(t, "witness", all(common.Witness(s, 3, 7, set)), "[[{7 -1} {5 1} {1 0}] true 0]")
 	want(t, "witness", all(common.Witness(s, 3, 0, set)), "[[{0 -1}] true 0]")
 	want(t, "witness", all(common.Witness(s, 0, 0, set)), "[[{0 -1}] true 0]")
+	three := systemOf(t, crashSystem(t, 0).Problem.Task, adversaryOf(t, 3, "0 1 2, 0 1 12"), 1)
+	n, _ := points.Count(three)
+	most := make([]bool, n)
+	for i := range most {
+		most[i] = i != 3
+	}
+	want(t, "least process", all(common.Witness(three, 7, 1, most)), "[[{1 -1} {3 0}] true 0]")
+	want(t, "least process", all(common.Witness(three, 6, 1, most)), "[[{1 -1} {3 1}] true 0]")
 	want(t, "witness", all(common.Witness(s, 0, 7, set)), "[[] false 0]")
 	want(t, "witness", all(common.Witness(s, 2, 7, set)), "[[] false 0]")
 	want(t, "witness", all(common.Witness(s, 3, 8, nil)), "[[] false 15]")
@@ -55,7 +63,7 @@ func TestCommonWalks(t *testing.T) {
 		walk  []common.Step
 		e     api.Errno
 	}{
-		{3, nil, api.ErrEmpty}, {3, make([]common.Step, api.MaxSteps+1), api.ErrMany}, {3, []common.Step{{Point: 8, Proc: 0}}, api.ErrNone}, {3, []common.Step{{Point: 0, Proc: 0}}, api.ErrForm}, {1, []common.Step{{Point: 7, Proc: -1}, {Point: 5, Proc: 1}}, api.ErrRange},
+		{3, nil, api.ErrEmpty}, {3, make([]common.Step, api.MaxSteps+1), api.ErrMany}, {3, make([]common.Step, api.MaxSteps), api.ErrForm}, {3, []common.Step{{Point: 8, Proc: 0}}, api.ErrNone}, {3, []common.Step{{Point: 0, Proc: 0}}, api.ErrForm}, {1, []common.Step{{Point: 7, Proc: -1}, {Point: 5, Proc: 1}}, api.ErrRange},
 		{3, []common.Step{{Point: 7, Proc: -1}, {Point: 5, Proc: 2}}, api.ErrRange}, {3, []common.Step{{Point: 7, Proc: -1}, {Point: 5, Proc: 0}}, api.ErrProof}, {3, []common.Step{{Point: 7, Proc: -1}, {Point: 5, Proc: 1}}, api.ErrProof},
 		{3, []common.Step{{Point: 7, Proc: -1}, {Point: 5, Proc: 1}, {Point: 1, Proc: 0}}, api.OK}, {0, []common.Step{{Point: 1, Proc: -1}}, api.OK}, {3, []common.Step{{Point: 7, Proc: -1}, {Point: -1, Proc: 9}}, api.ErrNone},
 	} {

@@ -139,6 +139,7 @@ func TestExecutionBuild(t *testing.T) {
 func TestExecutionQuestions(t *testing.T) {
 	s := exampleSystem(t)
 	want(t, "find", all(execution.Find(s, 1, wordOf(t, 2, "0 01"))), "[2 0]")
+	want(t, "find", all(execution.Find(s, 0, wordOf(t, 2, "0 01"))), "[0 0]")
 	want(t, "find", all(execution.Find(s, 1, nil)), "[0 6]")
 	want(t, "find", all(execution.Find(s, 2, wordOf(t, 2, "0 01"))), "[0 6]")
 	want(t, "obliged", all(execution.Obliged(s, 3)), "[3 0]")

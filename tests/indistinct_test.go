@@ -46,6 +46,10 @@ func TestIndistinctWalks(t *testing.T) {
 	want(t, "distance", all(indistinct.Distance(s, 1, 3)), "[3 true 0]")
 	want(t, "distance", all(indistinct.Distance(s, 1, 1)), "[0 true 0]")
 	want(t, "distance", all(indistinct.Distance(s, 4, 1)), "[0 false 6]")
+	// Processes 0 and 1 cannot tell whether process 2 hears process 1.
+	three := systemOf(t, crashSystem(t, 0).Problem.Task, adversaryOf(t, 3, "0 1 2, 0 1 12"), 1)
+	want(t, "both", all(indistinct.Linked(three, 0, 1)), "[3 0]")
+	want(t, "least process", all(indistinct.Walk(three, 0, 1)), "[[{0 -1} {1 0}] true 0]")
 	apart := systemOf(t, consensusOf(t, 0, 3), adversaryOf(t, 2, "01 01"), 1)
 	want(t, "apart", all(indistinct.Walk(apart, 0, 1)), "[[] false 0]")
 	want(t, "apart", all(indistinct.Distance(apart, 0, 1)), "[0 false 0]")

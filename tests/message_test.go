@@ -32,7 +32,7 @@ func TestMessageSymbols(t *testing.T) {
 	for _, x := range []struct {
 		place message.Place
 		e     api.Errno
-	}{{message.Place{Round: 1, From: 9}, api.ErrRange}, {message.Place{Round: -1, From: 9}, api.ErrRange}, {message.Place{Round: 0, From: 2, To: 2}, api.ErrNone}, {message.Place{Round: 0, From: 0, To: -1}, api.ErrNone}, {message.Place{Round: 0, From: 1, To: 1}, api.ErrUse}} {
+	}{{message.Place{Round: 1, From: 9}, api.ErrRange}, {message.Place{Round: -1, From: 9}, api.ErrRange}, {message.Place{Round: 0, From: 2, To: 2}, api.ErrNone}, {message.Place{Round: 0, From: 2, To: 0}, api.ErrNone}, {message.Place{Round: 0, From: -1, To: 0}, api.ErrNone}, {message.Place{Round: 0, From: 0, To: 2}, api.ErrNone}, {message.Place{Round: 0, From: 0, To: -1}, api.ErrNone}, {message.Place{Round: 0, From: 1, To: 1}, api.ErrUse}} {
 		want(t, "place", all(message.Symbols(s, six, x.place)), all([]int{}, x.e))
 		want(t, "place", all(message.Count(s, six, x.place)), all(0, x.e))
 		want(t, "place", message.Verify(s, six, x.place, nil), x.e)
@@ -63,7 +63,7 @@ func TestMessageVerify(t *testing.T) {
 		symbols []int
 		e       api.Errno
 	}{
-		{[]int{-1, 0, -1, -1, -1, 1, -1, -1}, api.OK}, {[]int{-1, 7, -1, -1, -1, 3, -1, -1}, api.OK}, {[]int{-1, 1, -1, -1, -1, 1, -1, -1}, api.ErrProof}, {[]int{0}, api.ErrForm}, {[]int{0, 0, -1, -1, -1, 1, -1, -1}, api.ErrRange},
+		{[]int{-1, 0, -1, -1, -1, 1, -1, -1}, api.OK}, {[]int{-1, 7, -1, -1, -1, 3, -1, -1}, api.OK}, {[]int{-1, api.MaxNumber, -1, -1, -1, 0, -1, -1}, api.OK}, {[]int{-1, 1, -1, -1, -1, 1, -1, -1}, api.ErrProof}, {[]int{0}, api.ErrForm}, {[]int{0, 0, -1, -1, -1, 1, -1, -1}, api.ErrRange},
 		{[]int{-1, -1, -1, -1, -1, 1, -1, -1}, api.ErrRange}, {[]int{-1, api.MaxNumber + 1, -1, -1, -1, 1, -1, -1}, api.ErrRange},
 	} {
 		want(t, string(rune('a'+i)), message.Verify(s, each, back, x.symbols), x.e)

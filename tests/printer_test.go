@@ -38,7 +38,7 @@ func TestPrinterProgram(t *testing.T) {
 	name := api.Syntax{Kind: api.NodeName, Text: "x"}
 	for i, bad := range []api.Syntax{
 		{}, {Kind: api.NodeTask}, {Kind: api.NodeProgram, Text: "x"}, {Kind: api.NodeProgram, Num: -1}, {Kind: api.NodeProgram, Num: api.MaxNumber + 1}, program(number), task(), task(number), task(number, clause(api.NodeCalm)),
-		task(number, clause(api.NodeAllow), clause(api.NodeWhere)), task(number, clause(api.NodeAllow), clause(api.NodeAllow)), task(name, clause(api.NodeAllow)), task(number, clause(api.NodeWhere), clause(api.NodeCalm)), task(number, api.Syntax{Kind: api.NodeAllow}), task(number, api.Syntax{Kind: api.NodeAllow, Num: 1, Kids: []api.Syntax{number}}),
+		task(number, clause(api.NodeAllow), clause(api.NodeWhere)), task(number, clause(api.NodeAllow), clause(api.NodeAdversary)), task(number, clause(api.NodeTask), clause(api.NodeAllow)), task(number, clause(api.NodeAllow), clause(api.NodeAllow)), task(name, clause(api.NodeAllow)), task(number, clause(api.NodeWhere), clause(api.NodeCalm)), task(number, api.Syntax{Kind: api.NodeAllow}), task(number, api.Syntax{Kind: api.NodeAllow, Num: 1, Kids: []api.Syntax{number}}),
 		program(api.Syntax{Kind: api.NodeProblem, Text: "p", Kids: []api.Syntax{name}}), program(api.Syntax{Kind: api.NodeProblem, Text: "all", Kids: []api.Syntax{name, name}}), program(api.Syntax{Kind: api.NodeAdversary, Text: "p", Num: 1, Kids: []api.Syntax{name}}), program(api.Syntax{Kind: api.NodeFormula, Text: "p", Kids: []api.Syntax{name}}),
 	} {
 		if i > 0 {

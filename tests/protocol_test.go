@@ -42,6 +42,8 @@ func TestProtocolTasks(t *testing.T) {
 	want(t, "outputs", sketchComplex(protocol.Outputs(calmTask())), "01 0/11/1 ")
 	want(t, "image", sketchComplex(protocol.Image(calmTask(), 1)), "01 0/11/1 ")
 	want(t, "image", sketchComplex(protocol.Image(calmTask(), 2)), "0/11/1 ")
+	want(t, "image", sketchComplex(protocol.Image(calmTask(), 0)), "01 ")
+	want(t, "image", all(protocol.Image(calmTask(), -1)), all(api.Complex{}, api.ErrNone))
 	want(t, "image", all(protocol.Image(calmTask(), 3)), all(api.Complex{}, api.ErrNone))
 	var many api.Task
 	many.N, many.Ins, many.Outs = 5, 5, 8

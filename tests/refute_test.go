@@ -29,6 +29,7 @@ func TestRefuteVerify(t *testing.T) {
 	want(t, "verify", all(refute.Verify(c, [][]int{{1}, {2, 1}, {3}})), "[1 14]")
 	want(t, "verify", all(refute.Verify(c, [][]int{{}, {3}})), "[1 2]")
 	want(t, "verify", all(refute.Verify(c, make([][]int, 32769))), "[0 5]")
+	want(t, "verify", all(refute.Verify(clausesOf(1, []int{1}, []int{-1}), make([][]int, 32768))), "[0 0]")
 	want(t, "verify", all(refute.Verify(clausesOf(2, []int{1, 2}, []int{1, -2}, []int{-1, 2}), [][]int{{1}, {2}, {}})), "[2 18]")
 	want(t, "empty", all(refute.Empty(c)), "[false 0]")
 	want(t, "empty", all(refute.Empty(clausesOf(2, []int{1}, []int{-1, 2}, []int{-2}))), "[true 0]")

@@ -95,6 +95,10 @@ func TestResolveTrees(t *testing.T) {
 	}
 	want(t, "group", formulaOf(t, "K(1, C(everyone, input(0, 1)))", 2).Args[0].Group, 3)
 	want(t, "range", all(resolve.Formula(api.Syntax{Kind: 99}, 6)), all(api.Formula{}, 0, api.ErrRange))
+	want(t, "range", all(resolve.Formula(api.Syntax{Kind: 99}, 0)), all(api.Formula{}, 0, api.ErrRange))
+	for _, n := range []int{1, 5} {
+		want(t, "everyone", formulaOf(t, "E(everyone, true)", n).Group, 1<<n-1)
+	}
 	for _, x := range []struct {
 		src string
 		at  int

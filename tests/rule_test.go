@@ -79,6 +79,7 @@ func TestRuleSolves(t *testing.T) {
 	faulty := systemOf(t, consensusOf(t, 0), adversaryOf(t, 2, "0 01 !0 > 1, 01 01", "0 1 !0"), 1)
 	want(t, "faulty", all(rule.Solves(faulty, ruleOf(-1, 0, -1, 0, 0))), "[true 0 0]")
 	want(t, "faulty", all(rule.Measure(faulty, ruleOf(-1, 0, -1, 0, 0))), "[1 1 0]")
+	want(t, "faulty", all(rule.Measure(faulty, ruleOf(-1, -1, -1, 0, 0))), "[1 3 0]")
 	want(t, "faulty", all(rule.Earlier(faulty, ruleOf(-1, 0, -1, 0, 0), ruleOf(-1, 0, 1, 0, 0))), "[true 0]")
 }
 

@@ -79,6 +79,10 @@ func TestSpernerCertificates(t *testing.T) {
 	want(t, "verify", sperner.Verify(d.Complex, l, levels), api.OK)
 	wider := api.Labels{Vertices: l.Vertices, Allowed: []int{1, 3, 2, 7}}
 	want(t, "none", all(sperner.Certificate(d.Complex, wider, 1)), "[[] false 0]")
+	whole := complexOf(t, "01234567")
+	own := api.Labels{Vertices: corners(0, 1, 2, 3, 4, 5, 6, 7), Allowed: []int{1, 2, 4, 8, 16, 32, 64, 128}}
+	chain, ok, e := sperner.Certificate(whole, own, 7)
+	want(t, "whole", all(len(chain), sketchChain(chain[7]), sperner.Verify(whole, own, chain), ok, e), "[8 01234567  0 true 0]")
 	want(t, "range", all(sperner.Certificate(d.Complex, l, 8)), "[[] false 2]")
 	want(t, "range", all(sperner.Certificate(d.Complex, l, -1)), "[[] false 2]")
 	want(t, "cover", all(sperner.Certificate(complexOf(t, "7"), l, -1)), "[[] false 6]")
