@@ -77,7 +77,9 @@ func TestBisimulationQuotients(t *testing.T) {
 	holds, _ := temporal.Eval(s, api.Rule{}, f)
 	want(t, "formula", all(holds[0], holds[2], ok, e), "[true false true 0]")
 	want(t, "same", all(bisimulation.Formula(s, 3, 3)), all(api.Formula{}, false, api.OK))
-	want(t, "none", all(bisimulation.Formula(s, 3, 8)), all(api.Formula{}, false, api.ErrNone))
+	for _, bad := range [][2]int{{3, 8}, {8, 3}, {-1, 3}, {3, -1}} {
+		want(t, "none", all(bisimulation.Formula(s, bad[0], bad[1])), all(api.Formula{}, false, api.ErrNone))
+	}
 }
 
 // P40.3: consequences.

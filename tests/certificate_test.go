@@ -60,6 +60,11 @@ func TestCertificateTexts(t *testing.T) {
 		many[i] = -api.MaxVars
 	}
 	want(t, "many", certificate.Check(proofOf(many, []int{api.MaxVars})), api.OK)
+	views := make([][]int, api.MaxSize)
+	for i := range views {
+		views[i] = []int{i}
+	}
+	want(t, "many", certificate.Check(rainbowOf([]int{0}, views)), api.OK)
 	want(t, "many", certificate.Check(walkCertificate(api.Link{Execution: api.MaxNumber, Proc: -1}, api.Link{Proc: 4})), api.OK)
 	want(t, "many", certificate.Check(rainbowOf([]int{7, 0, 0, 0, 0}, [][]int{{0, api.MaxNumber, 1, 2, 3}}, nil, nil, nil, nil)), api.OK)
 	long := proofOf()

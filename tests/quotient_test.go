@@ -70,7 +70,7 @@ func TestQuotientPaths(t *testing.T) {
 		path []int
 		e    api.Errno
 	}{
-		{nil, api.ErrEmpty}, {make([]int, 8), api.ErrMany}, {[]int{1, 8}, api.ErrNone}, {[]int{1}, api.ErrProof}, {[]int{1, 3}, api.OK}, {[]int{5, 6}, api.OK}, {[]int{1, 6}, api.ErrProof}, {[]int{0, 3}, api.ErrProof}, {[]int{1, 4}, api.ErrProof}, {[]int{1, 3, 3}, api.ErrProof},
+		{nil, api.ErrEmpty}, {make([]int, 8), api.ErrMany}, {make([]int, 7), api.ErrProof}, {[]int{1, 8}, api.ErrNone}, {[]int{1}, api.ErrProof}, {[]int{1, 3}, api.OK}, {[]int{5, 6}, api.OK}, {[]int{1, 6}, api.ErrProof}, {[]int{0, 3}, api.ErrProof}, {[]int{1, 4}, api.ErrProof}, {[]int{1, 3, 3}, api.ErrProof},
 	} {
 		want(t, string(rune('a'+i)), quotient.Apart(s, six, 1, 5, x.path), x.e)
 	}

@@ -35,6 +35,7 @@ func TestRuleTimes(t *testing.T) {
 	want(t, "early", all(rule.Early(s, ruleOf(9, 9, 0, 0, 0, -5, 0, 0))), all(zero, api.OK))
 	want(t, "early", all(rule.Early(s, ruleOf(9, 9, 0, 0, 0, -5, 0, 1))), "[{[-1 0 0 0 0 0 0 1]} 0]")
 	want(t, "early", all(rule.Early(s, ruleOf(0, 0))), "[{[]} 15]")
+	want(t, "early", all(rule.Early(s, ruleOf(0, 0, 0, 0, 0, 0, 0, 2))), "[{[]} 2]")
 	want(t, "early", all(rule.Early(s, ruleOf(0, 0, 0, -1, 7, 0, 0, 0))), "[{[]} 20]")
 	want(t, "early", all(rule.Early(s, ruleOf(0, 0, 0, -2, -1, 0, 0, 0))), "[{[]} 2]")
 	faulty := systemOf(t, consensusOf(t, 0), adversaryOf(t, 2, "0 01 !0 > 1, 01 01", "0 1 !0"), 1)
