@@ -100,6 +100,7 @@ func TestComplexQuestions(t *testing.T) {
 	want(t, "euler", all(complex.Euler(c)), "[1 0]")
 	want(t, "euler", all(complex.Euler(complexOf(t, "01", "02", "12"))), "[0 0]")
 	want(t, "euler", all(complex.Euler(api.Complex{})), "[0 0]")
+	want(t, "euler", all(complex.Euler(complexOf(t, "01234567"))), "[1 0]")
 	want(t, "components", all(complex.Components(complexOf(t, "01", "23", "14", "5", "36"))), "[[0 0 1 1 2] 0]")
 	wide := wideComplex(600)
 	want(t, "limit", all(complex.Simplices(wide, 2)), "[[] 17]")

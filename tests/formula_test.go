@@ -78,6 +78,7 @@ func TestFormulaChanges(t *testing.T) {
 	wide = api.Formula{Op: api.FormulaNot, Args: []api.Formula{{Op: api.FormulaAnd, Args: []api.Formula{wide, wide.Args[0]}}}}
 	want(t, "many", all(formula.Normal(wide, 2)), all(api.Formula{}, api.ErrMany))
 	want(t, "permute", text(formula.Permute(formulaOf(t, "C({0}, heard(0, 1))", 2), []int{1, 0})), "C({1}, heard(1, 0))")
+	want(t, "permute", text(formula.Permute(formulaOf(t, "faulty(0) or decided(1, 0) until E({1}, D({0}, heard(0, 0)))", 2), []int{1, 0})), "faulty(1) or decided(0, 0) until E({0}, D({1}, heard(1, 1)))")
 	want(t, "permute", text(formula.Permute(formulaOf(t, "K(0, input(1, 1) and at(1)) or given(1)", 2), []int{1, 0})), "K(1, input(0, 1) and at(1)) or given(1)")
 	want(t, "permute", all(formula.Permute(f, []int{0, 0})), all(api.Formula{}, api.ErrTwice))
 	want(t, "permute", all(formula.Permute(f, []int{0})), all(api.Formula{}, api.ErrRange))

@@ -27,7 +27,7 @@ func TestPermutationBasics(t *testing.T) {
 	for _, x := range []struct {
 		a []int
 		e api.Errno
-	}{{nil, api.ErrRange}, {[]int{0, 1, 2, 3, 4, 5}, api.ErrRange}, {[]int{0, 0, 9}, api.ErrTwice}, {[]int{0, 9, 0}, api.ErrRange}, {[]int{-1}, api.ErrRange}} {
+	}{{nil, api.ErrRange}, {[]int{0, 1, 2, 3, 4, 5}, api.ErrRange}, {[]int{0, 0, 9}, api.ErrTwice}, {[]int{0, 9, 0}, api.ErrRange}, {[]int{-1}, api.ErrRange}, {[]int{0, 2}, api.ErrRange}, {[]int{1}, api.ErrRange}} {
 		want(t, "check", permutation.Check(x.a), x.e)
 		want(t, "inverse", all(permutation.Inverse(x.a)), all([]int{}, x.e))
 		want(t, "order", all(permutation.Order(x.a)), all(0, x.e))

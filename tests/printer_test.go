@@ -46,6 +46,7 @@ func TestPrinterProgram(t *testing.T) {
 			want(t, "format", all(printer.Format(bad)), all("", api.ErrForm))
 		}
 	}
+	want(t, "greatest program", all(printer.Format(api.Syntax{Num: api.MaxNumber})), all("processes 1048576;\n", api.OK))
 	want(t, "zero program", all(printer.Format(api.Syntax{})), all("processes 0;\n", api.OK))
 	want(t, "task", all(printer.Format(task(number, clause(api.NodeAllow)))), all("processes 1;\ntask c inputs 1 outputs 1 allow 1;\n", api.OK))
 	long := program()

@@ -62,6 +62,10 @@ func TestQuotientPaths(t *testing.T) {
 	want(t, "distinguish", all(quotient.Distinguish(s, six, 6, 3)), "[[3] true 0]")
 	want(t, "distinguish", all(quotient.Distinguish(s, six, 4, 2)), "[[] false 0]")
 	want(t, "distinguish", all(quotient.Distinguish(s, six, 2, 8)), "[[] false 6]")
+	for _, bad := range [][2]int{{-1, 0}, {0, -1}, {8, 0}, {0, 8}} {
+		want(t, "none", all(quotient.Distinguish(s, six, bad[0], bad[1])), "[[] false 6]")
+		want(t, "none", quotient.Apart(s, six, bad[0], bad[1], nil), api.ErrNone)
+	}
 	want(t, "distinguish", all(quotient.Distinguish(s, six, 0, 1)), "[[] false 22]")
 	want(t, "distinguish", all(quotient.Distinguish(s, six, 0, 2)), "[[] false 22]")
 	gap := systemOf(t, consensusOf(t, 0, 1, 2), adversaryOf(t, 2, "01 01"), 1)

@@ -211,10 +211,11 @@ func TestResolveChecks(t *testing.T) {
 		func(p *api.Program) { p.N = 0 }, func(p *api.Program) { p.Formulas = make([]api.FormulaDecl, 1025) }, func(p *api.Program) { p.Tasks[0].Name = "K" }, func(p *api.Program) { p.Problems[0].Name = "c" }, func(p *api.Program) { p.Tasks[0].Ins = 9 },
 		func(p *api.Program) { p.Tasks[0].Outs = 0 }, func(p *api.Program) { p.Tasks[0].Where = ex(99) }, func(p *api.Program) { p.Tasks[0].Allow = api.Expr{} }, func(p *api.Program) { p.Tasks[0].Calm = num(1) }, func(p *api.Program) { p.Adversaries[0].Scheme = ref },
 		func(p *api.Program) { p.Formulas[0].Formula = api.Formula{Op: 77} }, func(p *api.Program) { p.Problems[0].Task = 1 }, func(p *api.Program) { p.Problems[0].Adversary = -1 }, func(p *api.Program) { p.Problems[0].Rounds = 7 },
+		func(p *api.Program) { p.Problems[0].Adversary = 2 }, func(p *api.Program) { p.Problems[0].Task = -1 }, func(p *api.Program) { p.Problems[0].Rounds = -1 },
 	} {
 		bad := programOf(t, exampleProgram)
 		change(&bad)
-		wanted := []api.Errno{api.ErrRange, api.ErrMany, api.ErrName, api.ErrTwice, api.ErrRange, api.ErrRange, api.ErrArg, api.ErrType, api.ErrType, api.ErrName, api.ErrArg, api.ErrNone, api.ErrNone, api.ErrRange}[i]
+		wanted := []api.Errno{api.ErrRange, api.ErrMany, api.ErrName, api.ErrTwice, api.ErrRange, api.ErrRange, api.ErrArg, api.ErrType, api.ErrType, api.ErrName, api.ErrArg, api.ErrNone, api.ErrNone, api.ErrRange, api.ErrNone, api.ErrNone, api.ErrRange}[i]
 		want(t, fmt.Sprint("program ", i), resolve.Check(bad), wanted)
 		want(t, "source", all(resolve.Source(bad)), all(api.Syntax{}, wanted))
 	}

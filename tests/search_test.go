@@ -115,6 +115,14 @@ func TestSearchViolations(t *testing.T) {
 		want(t, "minimal", all(search.Minimal(y.p, api.Machine{}, search.Play{})), all(false, y.e))
 	}
 	bad := append(badMachines(t), badMachine{big, api.ErrMismatch})
+	for _, change := range []func(m *api.Machine){
+		func(m *api.Machine) { m.Outs = 3 }, func(m *api.Machine) { m.Ins, m.First = 3, [][]int{{0, 0, 0}, {0, 0, 0}} },
+		func(m *api.Machine) { m.Rounds, m.Out, m.Symbols, m.Steps = 0, m.Out[:1], nil, nil },
+	} {
+		_, other := leastProblem(t)
+		change(&other)
+		bad = append(bad, badMachine{other, api.ErrMismatch})
+	}
 	for _, y := range bad {
 		want(t, "worst", all(search.Worst(p, y.m)), all(api.Trace{}, 0, y.e))
 		want(t, "violation", all(search.Violation(p, y.m)), all(api.Trace{}, 0, false, y.e))

@@ -58,6 +58,8 @@ func TestSimulateRun(t *testing.T) {
 	want(t, "error", all(simulate.Run(m, []int{1, 1}, wordOf(t, 2, "0 01"))), all(api.Trace{}, api.ErrGap))
 	five := api.Trace{Inputs: []int{0, 1, 7, 3, 0}, States: [][]int{{0, 1, 2, 3, api.MaxNumber}}, Decisions: []int{0, -1, 7, -1, 0}, Times: []int{0, -1, 0, -1, 0}}
 	want(t, "five", simulate.Check(five), api.OK)
+	six := api.Trace{Inputs: []int{0}, Word: wordOf(t, 1, "0 / 0 / 0 / 0 / 0 / 0"), States: [][]int{{0}, {0}, {0}, {0}, {0}, {0}, {0}}, Decisions: []int{1}, Times: []int{6}}
+	want(t, "six", simulate.Check(six), api.OK)
 	for i, bad := range badTraces(t) {
 		name := string(rune('A' + i))
 		want(t, name, simulate.Check(bad.t), bad.e)
