@@ -57,6 +57,11 @@ func TestChainBoundaries(t *testing.T) {
 	want(t, "many", sketchedChain(chain.Sum(many, others)), "error 05")
 	want(t, "many", sketchedChain(chain.Boundary(many)), "error 05")
 	want(t, "many", all(chain.Cycle(many)), "[false 0]")
+	var points [][]api.Vertex
+	for i := range 4096 {
+		points = append(points, []api.Vertex{{Label: i}})
+	}
+	want(t, "many", chain.Check(points), api.OK)
 	for _, x := range badChains() {
 		want(t, "check", chain.Check(x.a), x.e)
 		want(t, "sum", all(chain.Sum(chainOf("0"), x.a)), all([]int{}, x.e))

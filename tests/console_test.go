@@ -57,6 +57,9 @@ func TestConsoleOrder(t *testing.T) {
 	bad.Rule = api.Rule{Out: []int{5}}
 	next, _ = console.Do(bad, "help")
 	want(t, "rule", all(next.Problem, len(next.Rule.Out)), "[0 0]")
+	bad.Problem = 1
+	next, text = console.Do(bad, "decide")
+	want(t, "problem", all(next.Problem, text), "[-1 error 21]")
 	bad.Problem = 7
 	next, text = console.Do(bad, "decide")
 	want(t, "problem", all(next.Problem, len(next.Rule.Out), next.Loaded, text), "[-1 0 true error 21]")

@@ -43,7 +43,7 @@ func TestProcsetSubsets(t *testing.T) {
 	want(t, "format", all(procset.Format(4, 16)), "[ 2]")
 	for text, e := range map[string]api.Errno{
 		"{0,4}": api.ErrRange, "{2,0}": api.ErrOrder, "{0,0}": api.ErrTwice, "{0, 2}": api.ErrSyntax, "{2,0,0}": api.ErrTwice,
-		"": api.ErrSyntax, "}": api.ErrSyntax, "{01}": api.ErrSyntax, "{a}": api.ErrSyntax, "{/}": api.ErrSyntax, "{:}": api.ErrSyntax, "{9}": api.ErrRange, "{0,,1}": api.ErrSyntax, "{0,1,2,3,0,1,2,3,0,1,2,3}": api.ErrLong,
+		"": api.ErrSyntax, "}": api.ErrSyntax, "{": api.ErrSyntax, "}{": api.ErrSyntax, "0}": api.ErrSyntax, "{0": api.ErrSyntax, "{}}": api.ErrSyntax, "{01}": api.ErrSyntax, "{a}": api.ErrSyntax, "{/}": api.ErrSyntax, "{:}": api.ErrSyntax, "{9}": api.ErrRange, "{0,,1}": api.ErrSyntax, "{0,1,2,3,0,1,2,3,0,1,2,3}": api.ErrLong,
 	} {
 		want(t, "parse "+text, all(procset.Parse(4, text)), all(0, e))
 	}

@@ -26,6 +26,8 @@ func TestProtocolComplexes(t *testing.T) {
 	want(t, "simplex", all(protocol.Simplex(faulty, 1)), "[[{0 4}] 0]")
 	want(t, "complex", sketchComplex(protocol.Complex(faulty)), "0/4 ")
 	want(t, "project", all(protocol.Project(s)), "[{[{0 2} {0 4} {0 7} {1 3} {1 6}] [{0 0} {0 0} {0 0} {1 0} {1 1}]} 0]")
+	ones := systemOf(t, consensusOf(t, 3), adversaryOf(t, 2, "01 01"), 2)
+	want(t, "project", all(protocol.Project(ones)), "[{[{0 4} {1 5}] [{0 1} {1 1}]} 0]")
 	for _, x := range badSystems(t) {
 		want(t, "complex", all(protocol.Complex(x.s)), all(api.Complex{}, x.e))
 		want(t, "case", all(protocol.Case(x.s, -1)), all(api.Complex{}, x.e))

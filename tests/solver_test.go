@@ -87,6 +87,12 @@ func TestSolverModels(t *testing.T) {
 	want(t, "models", all(solver.Models(c, 1025)), "[[] 2]")
 	want(t, "models", all(solver.Models(clausesOf(21, nil), 1)), "[[] 17]")
 	want(t, "models", all(solver.Models(clausesOf(0), 1)), "[[[]] 0]")
+	units := clausesOf(20)
+	for v := range 20 {
+		units.List = append(units.List, []int{-1 - v})
+	}
+	only, e := solver.Models(units, 1)
+	want(t, "models", all(len(only), only[0][19], e), "[1 -20 0]")
 	want(t, "count", all(solver.Count(c)), "[3 0]")
 	want(t, "count", all(solver.Count(clausesOf(20, []int{1}, []int{-1, 20}))), "[262144 0]")
 	want(t, "count", all(solver.Count(clausesOf(2, nil))), "[0 0]")

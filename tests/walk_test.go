@@ -8,6 +8,7 @@ import (
 	"roundtable/indistinct"
 	"roundtable/library"
 	"roundtable/rule"
+	"roundtable/task"
 	"roundtable/walk"
 )
 
@@ -55,6 +56,10 @@ func TestWalkFind(t *testing.T) {
 	want(t, "find", all(c.Walk[0], c.Walk[len(c.Walk)-1].Execution >= 6, ok, e), "[{0 -1} true true 0]")
 	want(t, "verify", walk.Verify(one, c), api.OK)
 	want(t, "none", all(walk.Find(systemOf(t, consensusOf(t, 0, 1, 3), adversaryOf(t, 2, "0 01, 01 01"), 1))), all(api.Certificate{}, false, api.OK))
+	three, _ := library.Consensus(2, 3)
+	three, _ = task.Restrict(three, []int{0, 4, 5, 8})
+	c, ok, e = walk.Find(systemOf(t, three, adversaryOf(t, 2, "01 01"), 0))
+	want(t, "second component", all(c.Walk, ok, e), "[[{1 -1} {2 0} {3 1}] true 0]")
 	circle := problemOf(t, 6, "0 01, 01 1, 01 01")
 	want(t, "limit", all(walk.Find(systemOf(t, circle.Task, circle.Adversary, 6))), all(api.Certificate{}, false, api.ErrLimit))
 	for i, x := range []struct {
