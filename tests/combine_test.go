@@ -31,6 +31,8 @@ func TestCombinePairs(t *testing.T) {
 			want(t, name, all(f(x.a, api.Adversary{})), all(api.Adversary{}, x.e))
 		}
 	}
+	six, e := combine.Then(a, 6, b)
+	want(t, "then", all(len(six.States), e), "[7 0]")
 	want(t, "then", all(combine.Then(a, 7, b)), all(api.Adversary{}, api.ErrRange))
 	want(t, "then", all(combine.Then(a, -1, b)), all(api.Adversary{}, api.ErrRange))
 	wide, _ := failure.Graphs(4, yes)

@@ -72,6 +72,11 @@ func TestExprEval(t *testing.T) {
 		want(t, "truth", expr.Truth(x.e, s), k == api.KindBool && x.value == 1)
 	}
 	want(t, "vars", all(expr.Eval(ex(api.ExprSub, p, q), expr.Scene{N: 1, Vars: []int{7, 9}})), "[-2 0]")
+	for k, heard := range []int{1, 1, 0, 0, 0} {
+		wide := expr.Scene{N: 2, Hears: [5]int{31, 31, 31, 31, 31}}
+		want(t, "hears", all(expr.Eval(ex(api.ExprHears, num(0), num(k)), wide)), all(heard, api.OK))
+		want(t, "hears", all(expr.Eval(ex(api.ExprHears, num(k), num(0)), wide)), all(heard, api.OK))
+	}
 	want(t, "short lists", all(expr.Eval(in(num(0)), expr.Scene{N: 1})), "[-1 0]")
 	want(t, "long lists", all(expr.Eval(in(num(1)), expr.Scene{N: 1, In: []int{1, 2}})), "[-1 0]")
 	for _, bad := range []expr.Scene{{}, {N: 6}, {N: 1, In: []int{0, math.MinInt}}, {N: 1, Out: []int{api.MaxNumber + 1}}} {
@@ -108,7 +113,7 @@ func TestExprRewrite(t *testing.T) {
 	big := ex(api.ExprAdd, num(api.MaxNumber), num(1))
 	for _, x := range [][2]api.Expr{
 		{ex(api.ExprAnd, two, zero), zero}, {ex(api.ExprAnd, zero, two), zero}, {ex(api.ExprAnd, zero, no), no}, {ex(api.ExprOr, zero, no), zero}, {ex(api.ExprOr, zero, two), yes},
-		{nest(api.ExprNot, 3, zero), ex(api.ExprNot, zero)}, {ex(api.ExprNot, two), no}, {ex(api.ExprAll, ex(api.ExprNot, two)), no}, {ex(api.ExprCount, no), num(0)},
+		{nest(api.ExprNot, 3, zero), ex(api.ExprNot, zero)}, {ex(api.ExprNot, two), no}, {ex(api.ExprAll, ex(api.ExprNot, two)), no}, {ex(api.ExprCount, no), num(0)}, {ex(api.ExprAll, two), yes}, {ex(api.ExprSome, two), yes}, {ex(api.ExprSome, no), no}, {ex(api.ExprAll, equal(variable(0), num(0))), ex(api.ExprAll, equal(variable(0), num(0)))},
 		{ex(api.ExprCount, yes), ex(api.ExprCount, yes)}, {big, big}, {ex(api.ExprSub, num(1), num(3)), num(-2)}, {equal(num(5), num(5)), yes},
 	} {
 		got, e := expr.Fold(x[0], 0)

@@ -52,6 +52,12 @@ func TestLexerPlaces(t *testing.T) {
 	full := strings.Repeat("0", api.MaxText)
 	text, e := lexer.Join([]api.Token{{Kind: 1, Text: full}})
 	want(t, "join", all(text == full, e), "[true 0]")
+	signs := make([]api.Token, api.MaxText)
+	for i := range signs {
+		signs[i] = api.Token{Kind: api.TokenSign, Text: ";"}
+	}
+	text, e = lexer.Join(signs)
+	want(t, "join", all(len(text), e), all(api.MaxText, api.OK))
 	want(t, "position", all(lexer.Position(full, api.MaxText)), all(1, api.MaxText+1, api.OK))
 	want(t, "offset", all(lexer.Offset(full, 1, api.MaxText+1)), all(api.MaxText, api.OK))
 	want(t, "name", []api.Errno{lexer.Name("all"), lexer.Name("alll"), lexer.Name("1a"), lexer.Name(""), lexer.Name("K"), lexer.Name("k9")}, "[8 0 8 8 8 0]")

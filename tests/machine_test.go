@@ -63,6 +63,17 @@ func TestMachineRuns(t *testing.T) {
 	want(t, "play", all(machine.Play(m, []int{0, 1}, wordOf(t, 2, "0 1"))), "[[] 20]")
 	full := api.Machine{N: 1, Rounds: 0, Ins: 8, Outs: 8, First: [][]int{{0, 1, 2, 3, 4, 5, 6, api.MaxViews - 1}}, Out: [][][]int{{make([]int, api.MaxViews)}}}
 	want(t, "full", machine.Check(full), api.OK)
+	large := api.Machine{N: 5, Rounds: 6, Ins: 1, Outs: 1, First: [][]int{{-1}, {-1}, {-1}, {-1}, {-1}}}
+	for range 6 {
+		large.Out = append(large.Out, make([][]int, 5))
+		row := make([][][]int, 5)
+		for p := range row {
+			row[p] = make([][]int, 5)
+		}
+		large.Symbols = append(large.Symbols, row)
+	}
+	large.Out = append(large.Out, make([][]int, 5))
+	want(t, "large", machine.Check(large), api.OK)
 	for i, x := range badMachines(t) {
 		name := string(rune('A' + i))
 		want(t, name, machine.Check(x.m), x.e)

@@ -19,6 +19,9 @@ func TestPartitionClasses(t *testing.T) {
 	want(t, "count", all(partition.Count(nil)), "[0 0]")
 	want(t, "same", all(partition.Same([]int{0, 1, 0}, 2, 0)), "[true 0]")
 	want(t, "same", all(partition.Same([]int{0, 1, 0}, 1, 0)), "[false 0]")
+	want(t, "same", all(partition.Same([]int{0, 1, 0}, 0, 2)), "[true 0]")
+	want(t, "same", all(partition.Same([]int{0, 1, 0}, -1, 0)), "[false 2]")
+	want(t, "same", all(partition.Same([]int{0, 1, 0}, 0, 3)), "[false 2]")
 	want(t, "same", all(partition.Same([]int{0, 1, 0}, 3, 0)), "[false 2]")
 	want(t, "same", all(partition.Same([]int{0, 1, 0}, 0, -1)), "[false 2]")
 	for _, x := range badPartitions() {

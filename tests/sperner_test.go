@@ -117,7 +117,7 @@ func TestSpernerCertificates(t *testing.T) {
 		e      api.Errno
 	}{
 		{nil, api.ErrShape}, {make([][][]api.Vertex, 9), api.ErrShape}, {[][][]api.Vertex{{nil}}, api.ErrEmpty}, {[][][]api.Vertex{levels[1]}, api.ErrShape}, {[][][]api.Vertex{{letters("7")}}, api.ErrNone}, {[][][]api.Vertex{{d.Vertices[1:2], d.Vertices[0:1]}}, api.ErrOrder},
-		{[][][]api.Vertex{levels[0], levels[1][:2]}, api.ErrProof}, {[][][]api.Vertex{nil, levels[1]}, api.ErrProof}, {levels[:1], api.OK},
+		{[][][]api.Vertex{levels[0], levels[1][:2]}, api.ErrProof}, {[][][]api.Vertex{{d.Vertices[0:1], d.Vertices[0:1]}}, api.ErrOrder}, {[][][]api.Vertex{nil, levels[1]}, api.ErrProof}, {levels[:1], api.OK},
 		{[][][]api.Vertex{{d.Vertices[2:3]}}, api.ErrProof},
 	} {
 		want(t, string(rune('a'+i)), sperner.Verify(d.Complex, l, x.levels), x.e)
