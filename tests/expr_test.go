@@ -77,6 +77,7 @@ func TestExprEval(t *testing.T) {
 		want(t, "hears", all(expr.Eval(ex(api.ExprHears, num(0), num(k)), wide)), all(heard, api.OK))
 		want(t, "hears", all(expr.Eval(ex(api.ExprHears, num(k), num(0)), wide)), all(heard, api.OK))
 	}
+	want(t, "most processes", all(expr.Eval(ex(api.ExprCount, yes), expr.Scene{N: api.MaxProcs})), "[5 0]")
 	want(t, "short lists", all(expr.Eval(in(num(0)), expr.Scene{N: 1})), "[-1 0]")
 	want(t, "long lists", all(expr.Eval(in(num(1)), expr.Scene{N: 1, In: []int{1, 2}})), "[-1 0]")
 	for _, bad := range []expr.Scene{{}, {N: 6}, {N: 1, In: []int{0, math.MinInt}}, {N: 1, Out: []int{api.MaxNumber + 1}}} {
