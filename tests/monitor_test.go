@@ -71,7 +71,7 @@ func TestMonitorBlame(t *testing.T) {
 		decisions []int
 		kind, who int
 	}{
-		{[]int{0, 1}, "0 01", []int{0, 0}, 0, -1}, {[]int{0, 1}, "0 01", []int{0, 1}, 3, 1}, {[]int{0, 1}, "0 01", []int{0, -1}, 2, 1}, {[]int{0, 0}, "0 01", []int{1, 1}, 3, 0}, {[]int{0, 1}, "01 1", []int{-1, 1}, 1, -1}, {[]int{0, 1}, "", []int{0, 0}, 1, -1},
+		{[]int{0, 1}, "0 01", []int{0, 0}, 0, -1}, {[]int{0, 1}, "0 01", []int{0, 1}, 3, 1}, {[]int{0, 1}, "0 01", []int{0, -1}, 2, 1}, {[]int{0, 0}, "0 01", []int{1, 1}, 3, 0}, {[]int{0, 1}, "01 1", []int{-1, 1}, 1, -1}, {[]int{0, 1}, "none", []int{0, 0}, 1, -1},
 		{[]int{0, 1}, "0 01 !0", []int{0, 0}, 1, -1}, {[]int{0, 1}, "01 01 / 01 01", []int{0, 0}, 1, -1}, {[]int{0, 1}, "0 01", []int{-1, -1}, 2, 0},
 	} {
 		want(t, string(rune('a'+i)), all(monitor.Blame(p, x.inputs, wordOf(t, 2, x.word), x.decisions)), all(x.kind, x.who, api.OK))

@@ -54,8 +54,6 @@ func TestRoundTexts(t *testing.T) {
 	want(t, "product", graphText(round.Product(3, wordOf(t, 3, "0 01 2 / 0 1 12"))), "0 01 012")
 	want(t, "product", graphText(round.Product(2, nil)), "0 1")
 	want(t, "format", all(round.Format(3, l)), "[012 012 012 / 01 01 2 !2 0]")
-	want(t, "format", all(round.Format(3, nil)), "[ 0]")
-	want(t, "parse", all(round.Parse(3, "")), "[[] 0]")
 	bad := []api.Round{l[1], l[0]}
 	want(t, "faulty", all(round.Faulty(3, bad)), "[0 14]")
 	want(t, "obliged", all(round.Obliged(3, bad)), "[0 14]")
@@ -72,6 +70,23 @@ func TestRoundTexts(t *testing.T) {
 	} {
 		want(t, x.text, all(round.Parse(x.n, x.text)), all([]int{}, x.e))
 	}
+}
+
+// P15.2: the text of the empty word is none.
+func TestRoundEmptyWord(t *testing.T) {
+	for n := 1; n <= api.MaxProcs; n++ {
+		want(t, "format", all(round.Format(n, nil)), "[none 0]")
+		want(t, "format", all(round.Format(n, []api.Round{})), "[none 0]")
+		want(t, "parse", all(round.Parse(n, "none")), all([]int{}, api.OK))
+		for _, text := range []string{"", " ", "None", "NONE", " none", "none ", "nonenone", "none none", "none / none", "none / 0", "0 / none", "none !0", "none\n", "0 1 / none", " / ", "/"} {
+			want(t, text, all(round.Parse(n, text)), all([]int{}, api.ErrSyntax))
+		}
+	}
+	for _, n := range []int{-1, 0, api.MaxProcs + 1} {
+		want(t, "format", all(round.Format(n, nil)), all("", api.ErrArg))
+		want(t, "parse", all(round.Parse(n, "none")), all([]int{}, api.ErrArg))
+	}
+	want(t, "long", all(round.Parse(3, "none"+strings.Repeat(" ", api.MaxText))), all([]int{}, api.ErrLong))
 }
 
 // P15.3: consequences.
@@ -96,7 +111,12 @@ func TestRoundLaws(t *testing.T) {
 		p, _ := round.Product(3, l)
 		want(t, "renamed", graphText(round.Product(3, renamed)), graphText(graph.Permute(p, pi)))
 		want(t, "faulty", all(round.Faulty(3, renamed)), "[5 0]")
-		text, _ := round.Format(3, l)
-		want(t, "text", all(round.Parse(3, text)), all(l, api.OK))
+		seen := map[string]bool{}
+		for k := range len(l) + 1 {
+			text, _ := round.Format(3, l[:k])
+			want(t, "text", all(round.Parse(3, text)), all(l[:k], api.OK))
+			want(t, "different", seen[text], false)
+			seen[text] = true
+		}
 	}
 }

@@ -75,7 +75,7 @@ func TestSearchViolations(t *testing.T) {
 	want(t, "neighbors", all(search.Neighbors(p, playOf(t, "01 01", 0, 0))), "[[] 0]")
 	want(t, "neighbors", all(search.Neighbors(p, playOf(t, "01 01", 0, 2))), "[[] 6]")
 	want(t, "neighbors", all(search.Neighbors(p, playOf(t, "0 1", 0, 1))), "[[] 25]")
-	want(t, "neighbors", all(search.Neighbors(p, playOf(t, "", 0, 1))), "[[] 25]")
+	want(t, "neighbors", all(search.Neighbors(p, playOf(t, "none", 0, 1))), "[[] 25]")
 	want(t, "neighbors", all(search.Neighbors(p, playOf(t, "01 01 / 01 01", 0, 1))), "[[] 25]")
 	faulty := api.Problem{Task: p.Task, Adversary: adversaryOf(t, 2, "0 1 !01 > 1, 0 01 !0 > 1, 0 01 !01 > 1, 01 1 !1 > 2, 01 01 > 1", "01 01 !01", "0 1 !1"), Rounds: 2}
 	want(t, "faulty", all(search.Neighbors(faulty, playOf(t, "0 1 !01 / 01 01 !01", 0, 0))), all([]search.Play{playOf(t, "0 01 !0 / 01 01 !01", 0, 0), playOf(t, "0 01 !01 / 01 01 !01", 0, 0), playOf(t, "01 01 / 01 01 !01", 0, 0)}, api.OK))
@@ -137,7 +137,7 @@ func TestSearchShrink(t *testing.T) {
 	first := playOf(t, "01 1", 0, 1)
 	want(t, "minimal", all(search.Minimal(p, m, first)), "[true 0]")
 	want(t, "shrink", all(search.Shrink(p, m, first)), all(first, api.OK))
-	for x, e := range map[string]api.Errno{"01 01": api.ErrState, "0 1": api.ErrSchedule, "": api.ErrSchedule} {
+	for x, e := range map[string]api.Errno{"01 01": api.ErrState, "0 1": api.ErrSchedule, "none": api.ErrSchedule} {
 		want(t, x, all(search.Shrink(p, m, playOf(t, x, 0, 1))), all(search.Play{}, e))
 		want(t, x, all(search.Minimal(p, m, playOf(t, x, 0, 1))), all(false, e))
 	}
